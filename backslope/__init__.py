@@ -1,0 +1,1 @@
+"""Slopes, the way back from them, and papers where there is none."""

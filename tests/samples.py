@@ -1,0 +1,68 @@
+"""What the tests draw on: samples that are the same in every run, and checks of kinds."""
+
+from math import gcd
+from random import Random
+
+NOUGHT = (0, 1)
+ONE = (1, 1)
+
+
+def lowest(top, bottom):
+    """The number of two whole numbers, by another way than the program's."""
+    if bottom < 0:
+        return lowest(-top, -bottom)
+    return (top // gcd(top, bottom), bottom // gcd(top, bottom))
+
+
+def drawn_number(chance, figures):
+    top = chance.randrange(-(10 ** figures) + 1, 10 ** figures)
+    return lowest(top, chance.randrange(1, 10 ** figures))
+
+
+def drawn_whole(chance, figures):
+    return (chance.randrange(-(10 ** figures) + 1, 10 ** figures), 1)
+
+
+def drawn_poly(chance, degree, figures, draw=drawn_number):
+    """A polynomial of just this degree; -1 is nought."""
+    row = [draw(chance, figures) for place in range(degree + 1)]
+    while row and row[-1] == NOUGHT:
+        row[-1] = draw(chance, figures)
+    return tuple(row)
+
+
+def numbers():
+    """Small ones, noughts and ones, ones of twelve figures and of sixty."""
+    chance = Random(11)
+    small = [lowest(top, bottom) for top in range(-3, 4) for bottom in range(1, 4)]
+    many = sorted(set(small))
+    for figures in (12, 60):
+        many += [drawn_number(chance, figures) for time in range(4)]
+        many += [drawn_whole(chance, figures) for time in range(2)]
+    return many + [(10 ** 12 - 1, 10 ** 12 - 2), (-1, 10 ** 60), (10 ** 60, 1)]
+
+
+def polys():
+    """Nought, numbers, and polynomials of low degrees, some with noughts among their numbers."""
+    chance = Random(12)
+    many = [(), (ONE,), ((-2, 3),), (NOUGHT, ONE), (ONE, ONE), (NOUGHT, NOUGHT, (3, 1)), (ONE, NOUGHT, (-1, 2))]
+    many += [drawn_poly(chance, degree, 1) for degree in range(6)]
+    many += [drawn_poly(chance, degree, 12) for degree in range(4)]
+    return many + [drawn_poly(chance, 3, 60)]
+
+
+def whole(wholes):
+    """The polynomial of a list of whole numbers, the last one not nought."""
+    return tuple((top, 1) for top in wholes)
+
+
+def is_number(value):
+    if type(value) is not tuple or [type(part) for part in value] != [int, int]:
+        return False
+    return value[1] > 0 and gcd(value[0], value[1]) == 1
+
+
+def is_poly(value):
+    if type(value) is not tuple or not all(is_number(number) for number in value):
+        return False
+    return value == () or value[-1] != NOUGHT

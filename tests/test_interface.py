@@ -1,0 +1,31 @@
+import importlib
+import inspect
+import unittest
+
+NAMES = {
+    "errors": {"SlopeError": None, "NoText": None, "Nought": None, "TooGreat": None,
+               "Hole": ["self", "many"], "NoRow": ["self", "line"]},
+    "numbers": {"ratio": ["top", "bottom"], "plus": ["one", "other"], "minus": ["one", "other"],
+                "times": ["one", "other"], "over": ["one", "other"], "before": ["one", "other"],
+                "floor_of": ["one"], "power": ["one", "n"]},
+    "polys": {"poly": ["row"], "degree": ["P"], "p_plus": ["P", "Q"], "p_minus": ["P", "Q"], "p_times": ["P", "Q"],
+              "p_scaled": ["P", "c"], "p_split": ["P", "Q"], "monic": ["P"], "common": ["P", "Q"],
+              "bezout": ["P", "Q"], "p_slope": ["P"], "p_at": ["P", "c"], "p_moved": ["P", "c"],
+              "p_power": ["P", "n"]},
+}
+
+
+class Interface(unittest.TestCase):
+    def test_names_and_arguments(self):
+        for file, names in NAMES.items():
+            module = importlib.import_module("backslope." + file)
+            for name, arguments in names.items():
+                found = getattr(module, name)
+                self.assertEqual(found.__module__, "backslope." + file)
+                if arguments is not None:
+                    asked = found.__init__ if inspect.isclass(found) else found
+                    self.assertEqual(list(inspect.signature(asked).parameters), arguments, name)
+
+
+if __name__ == "__main__":
+    unittest.main()
