@@ -304,7 +304,7 @@ class Bezout(PolyCase):
         left = p_times(P[:97] + (ONE,), whole([1, 3, 2]))
         right = p_times(P[:97] + (ONE,), whole([5, 0, 0, -2]))
         self.bezout_held(left, right)
-        self.bezout_held(*great_ones(figures=1, draw=drawn_whole)[:2])
+        self.bezout_held(*great_ones(draw=drawn_whole)[:2])
 
 
 class Slope(PolyCase):
