@@ -6,6 +6,10 @@ Reckoning with a row over one bottom spares the search for lowest terms at every
 
 # For each n here 2 ^ n - 1 is a prime.
 EXPONENTS = (61, 127, 521, 1279, 4423, 9941, 21701, 44497)
+# 2 ^ 127 - 1: its powers soon pass what is looked for, and it divides hardly anything that is met.
+FIRST_PRIME = 170141183460469231731687303715884105727
+# 2 ^ 31 - 1: from here on primes are small enough to be sought one after another.
+SECOND_PRIME = 2147483647
 
 
 def common_divisor(one, other):
@@ -29,8 +33,33 @@ def raised(whole, n):
     return result
 
 
+def is_prime(whole):
+    divisor = 2
+    while divisor * divisor <= whole:
+        if whole % divisor == 0:
+            return False
+        divisor += 1
+    return whole > 1
+
+
+def prime_after(whole):
+    found = whole + 1
+    while not is_prime(found):
+        found += 1
+    return found
+
+
+def other_prime(prime):
+    return SECOND_PRIME if prime == FIRST_PRIME else prime_after(prime)
+
+
+def dot(row, other):
+    return sum([whole * factor for whole, factor in zip(row, other)])
+
+
+# The least number goes ahead, so that all others are cut down to its size at once.
 def content(row, start):
-    found = abs(start)
+    found = common_divisor(min([abs(whole) for whole in row if whole != 0], default=0), start)
     for whole in row:
         if found == 1:
             return 1
@@ -58,6 +87,44 @@ def row_times(row, other):
             for step, factor in enumerate(other):
                 result[place + step] += whole * factor
     return result
+
+
+def row_slope(row):
+    return [place * row[place] for place in range(1, len(row))]
+
+
+# None where it leaves a rest. No whole number divides all of the divisor, so that a quotient without a rest is of
+# whole numbers alone, and the first broken step tells.
+def row_over(row, divisor):
+    rest = list(row)
+    last = len(divisor) - 1
+    quotient = [0] * max(len(row) - last, 0)
+    for shift in range(len(row) - last - 1, -1, -1):
+        weight = rest[shift + last] // divisor[-1]
+        if weight * divisor[-1] != rest[shift + last]:
+            return None
+        quotient[shift] = weight
+        if weight != 0:
+            for place in range(last):
+                rest[shift + place] -= weight * divisor[place]
+    return None if any(rest[:last]) else quotient
+
+
+def row_at_modulo(row, place, modulus):
+    value = 0
+    for whole in reversed(row):
+        value = (value * place + whole) % modulus
+    return value
+
+
+# All places where the row is nought, real or not, have a size below 2 ^ this (by Fujiwara's bound).
+def root_exponent(row):
+    sizes = []
+    for step in range(1, len(row)):
+        whole = row[len(row) - 1 - step]
+        if whole != 0:
+            sizes.append(-((row[-1].bit_length() - whole.bit_length() - 1) // step))
+    return 1 + max(sizes, default=0)
 
 
 # One step of a division without fractions: factor * row - weight * x ^ shift * other.
@@ -111,6 +178,10 @@ def strand_shortened(strand):
     return [row_parted(row, shared) for row in strand]
 
 
+def row_shortened(row):
+    return strand_shortened([row])[0]
+
+
 def strand_euclid(strand, other):
     while other[0]:
         # A number divides all, and the rests on the way to it would be the longest.
@@ -138,8 +209,12 @@ def inverse_modulo(whole, prime):
     return one_weight % prime
 
 
+def rests_modulo(row, prime):
+    return [whole % prime for whole in row]
+
+
 def row_modulo(row, prime):
-    return row_trimmed([whole % prime for whole in row])
+    return row_trimmed(rests_modulo(row, prime))
 
 
 def monic_modulo(row, prime):
@@ -149,11 +224,22 @@ def monic_modulo(row, prime):
     return [whole * factor % prime for whole in row]
 
 
-# The divisor is monic, so that no step here needs an inverse.
-def rest_modulo(row, divisor, prime):
-    while len(row) >= len(divisor):
-        row = row_modulo(row_less(row, 1, divisor, row[-1], len(row) - len(divisor)), prime)
-    return row
+# The divisor is monic, so that no step here needs an inverse, and the modulus needn't be a prime.
+def split_modulo(row, divisor, modulus):
+    rest = list(row)
+    last = len(divisor) - 1
+    quotient = [0] * max(len(row) - last, 0)
+    for shift in range(len(row) - last - 1, -1, -1):
+        weight = rest[shift + last] % modulus
+        quotient[shift] = weight
+        if weight != 0:
+            for place in range(last):
+                rest[shift + place] -= weight * divisor[place]
+    return (row_trimmed(quotient), row_modulo(rest[:last], modulus))
+
+
+def rest_modulo(row, divisor, modulus):
+    return split_modulo(row, divisor, modulus)[1]
 
 
 def euclid_modulo(row, other, prime):
@@ -166,13 +252,77 @@ def euclid_modulo(row, other, prime):
     return row
 
 
-# As no whole number divides all of the divisor, a quotient is of whole numbers alone: the first broken step tells.
-def divides(divisor, row):
-    while len(row) >= len(divisor):
-        if row[-1] % divisor[-1] != 0:
-            return False
-        row = row_less(row, 1, divisor, row[-1] // divisor[-1], len(row) - len(divisor))
-    return not row
+# The u with u * row = 1 modulo the divisor and the prime, where row and divisor have no common factor.
+def inverse_rest(row, divisor, prime):
+    one = divisor
+    other = rest_modulo(row, divisor, prime)
+    one_weight = []
+    other_weight = [1]
+    while True:
+        factor = inverse_modulo(other[-1], prime)
+        other = row_modulo([whole * factor for whole in other], prime)
+        other_weight = row_modulo([whole * factor for whole in other_weight], prime)
+        if len(other) == 1:
+            return other_weight
+        parted = split_modulo(one, other, prime)
+        weight = row_modulo(row_less(one_weight, 1, row_times(parted[0], other_weight), 1, 0), prime)
+        one = other
+        other = parted[1]
+        one_weight = other_weight
+        other_weight = weight
+
+
+# From a monic factor of the row modulo a prime, which has nothing in common with what it leaves of the row, to the one
+# modulo a power of the prime above floor: a tuple of that factor and the power. As the row is quotient * factor + rest,
+# a step to factor + more leaves rest - quotient * more: so more is rest times weight, quotient's inverse.
+def lifted(row, factor, prime, floor):
+    modulus = prime
+    quotient = split_modulo(monic_modulo(row, prime), factor, prime)[0]
+    weight = inverse_rest(quotient, factor, prime)
+    while modulus <= floor:
+        modulus *= modulus
+        whole = monic_modulo(row, modulus)
+        rest = rest_modulo(whole, factor, modulus)
+        more = rest_modulo(row_times(rest, weight), factor, modulus)
+        factor = row_modulo(row_less(factor, 1, more, -1, 0), modulus)
+        quotient = split_modulo(whole, factor, modulus)[0]
+        spare = row_less([2], 1, rest_modulo(row_times(quotient, weight), factor, modulus), 1, 0)
+        weight = rest_modulo(row_times(weight, spare), factor, modulus)
+    return (factor, modulus)
+
+
+# Rows of one length, here of equations: a tuple of the rows that are left when each column that can be is cleared but
+# for a single 1, of the places of the rows they came from, and of those columns.
+def reduced_modulo(rows, prime):
+    left = [rests_modulo(row, prime) for row in rows]
+    order = list(range(len(rows)))
+    columns = []
+    for column in range(len(rows[0]) if rows else 0):
+        done = len(columns)
+        chosen = [place for place in range(done, len(left)) if left[place][column] != 0]
+        if chosen:
+            left = swapped(left, done, chosen[0])
+            order = swapped(order, done, chosen[0])
+            factor = inverse_modulo(left[done][column], prime)
+            lead = [whole * factor % prime for whole in left[done]]
+            left = [row_cleared(row, lead, column, prime) for row in left]
+            left[done] = lead
+            columns.append(column)
+    return (left[:len(columns)], order[:len(columns)], columns)
+
+
+def swapped(row, one, other):
+    result = list(row)
+    result[one] = row[other]
+    result[other] = row[one]
+    return result
+
+
+def row_cleared(row, lead, column, prime):
+    weight = row[column]
+    if weight == 0:
+        return row
+    return [(whole - weight * other) % prime for whole, other in zip(row, lead)]
 
 
 # Numbers below nought are looked for too, so half of the rests stand for those.
@@ -189,19 +339,26 @@ def common_by_prime(row, other, prime):
     if lead % prime == 0:
         return None
     found = euclid_modulo(row, other, prime)
-    guess = strand_shortened([[nearest(lead * whole, prime) for whole in found]])[0]
-    if divides(guess, row) and divides(guess, other):
-        return guess
-    return None
+    guess = row_shortened([nearest(lead * whole, prime) for whole in found])
+    if row_over(row, guess) is None or row_over(other, guess) is None:
+        return None
+    return guess
 
 
 # Primes go ahead of Euclid's way over the whole numbers, on which numbers grow far beyond those of the outcome.
 def row_common(row, other):
-    one = strand_shortened([row])
-    two = strand_shortened([other])
+    one = row_shortened(row)
+    two = row_shortened(other)
     if row and other:
         for exponent in EXPONENTS:
-            found = common_by_prime(one[0], two[0], raised(2, exponent) - 1)
+            found = common_by_prime(one, two, raised(2, exponent) - 1)
             if found is not None:
                 return found
-    return strand_euclid(one, two)[0]
+    return strand_euclid([one], [two])[0]
+
+
+# The row of the same places, each once, its last number above nought.
+def simple_row(row):
+    short = row_shortened(row)
+    simple = row_over(short, row_common(short, row_slope(short)))
+    return simple if simple[-1] > 0 else [-whole for whole in simple]

@@ -1,7 +1,10 @@
 """What the tests draw on: samples that are the same in every run, and checks of kinds."""
 
+from fractions import Fraction
 from math import gcd
 from random import Random
+
+from backslope.polys import common, p_times
 
 NOUGHT = (0, 1)
 ONE = (1, 1)
@@ -66,3 +69,44 @@ def is_poly(value):
     if type(value) is not tuple or not all(is_number(number) for number in value):
         return False
     return value == () or value[-1] != NOUGHT
+
+
+def is_fraction(value):
+    if type(value) is not tuple or len(value) != 2 or not all(is_poly(part) for part in value):
+        return False
+    top, bottom = value
+    return bottom != () and bottom[-1] == ONE and common(top, bottom) == (ONE,)
+
+
+def line(top, bottom=1):
+    """A polynomial of degree 1 that is nought at top over bottom alone."""
+    return whole([-top, bottom])
+
+
+def product(factors):
+    result = (ONE,)
+    for factor in factors:
+        result = p_times(result, factor)
+    return result
+
+
+def rank(rows):
+    """The rank of rows of numbers, by another way than the program's."""
+    left = [[Fraction(*number) for number in row] for row in rows]
+    found = 0
+    for column in range(len(left[0]) if left else 0):
+        chosen = [place for place in range(found, len(left)) if left[place][column]]
+        if chosen:
+            left[found], left[chosen[0]] = left[chosen[0]], left[found]
+            for place in range(found + 1, len(left)):
+                factor = left[place][column] / left[found][column]
+                if factor:
+                    left[place] = [one - factor * other for one, other in zip(left[place], left[found])]
+            found += 1
+    return found
+
+
+def weighted(one, other):
+    """The sum of the products of two rows of numbers."""
+    total = sum((Fraction(*left) * Fraction(*right) for left, right in zip(one, other, strict=True)), Fraction(0))
+    return (total.numerator, total.denominator)

@@ -12,6 +12,13 @@ NAMES = {
               "p_scaled": ["P", "c"], "p_split": ["P", "Q"], "monic": ["P"], "common": ["P", "Q"],
               "bezout": ["P", "Q"], "p_slope": ["P"], "p_at": ["P", "c"], "p_moved": ["P", "c"],
               "p_power": ["P", "n"]},
+    "linear": {"solved": ["rows", "due"]},
+    "places": {"rational_roots": ["P"], "count_between": ["P", "low", "high"]},
+    "parts": {"simple_parts": ["P"], "radical": ["P"], "inverse": ["P", "W"], "least": ["P", "W"],
+              "put_into": ["m", "P", "W"], "meets": ["P", "Q"]},
+    "fractions": {"fraction": ["P", "Q"], "f_plus": ["F", "G"], "f_minus": ["F", "G"], "f_times": ["F", "G"],
+                  "f_over": ["F", "G"], "f_slope": ["F"], "f_at": ["F", "c"], "f_moved": ["F", "c"],
+                  "f_poly": ["P"], "f_number": ["c"]},
 }
 
 

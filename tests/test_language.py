@@ -114,6 +114,8 @@ class Language(unittest.TestCase):
                 self.assertEqual(len(node.generators), 1, name)
             if isinstance(node, ast.BinOp):
                 self.assertNotIsInstance(node.op, (ast.Div, ast.Pow, ast.MatMult), name)
+            if isinstance(node, ast.Compare) and isinstance(node.ops[0], (ast.Is, ast.IsNot)):
+                self.assertIsInstance(node.comparators[0], ast.Constant, name)
 
     def test_names(self):
         for name, tree in trees():
@@ -128,6 +130,27 @@ class Language(unittest.TestCase):
             for node in ast.walk(tree):
                 if isinstance(node, ast.Name) and hasattr(builtins, node.id):
                     self.assertIn(node.id, OWN_NAMES, name)
+
+    def test_the_top_of_a_file(self):
+        for name, tree in trees():
+            self.assertIsNotNone(ast.get_docstring(tree), name)
+            bound = []
+            for node in tree.body[1:]:
+                self.assertIsInstance(node, (ast.ImportFrom, ast.FunctionDef, ast.ClassDef, ast.Assign), name)
+                if isinstance(node, (ast.FunctionDef, ast.ClassDef)):
+                    bound.append(node.name)
+                if isinstance(node, ast.Assign):
+                    bound.append(node.targets[0].id)
+                    ast.literal_eval(node.value)
+            self.assertEqual(len(bound), len(set(bound)), name)
+
+    def test_keywords(self):
+        kept = {"sorted": {"key", "reverse"}, "min": {"key", "default"}, "max": {"key", "default"},
+                "sum": {"start"}, "enumerate": {"start"}, "zip": {"strict"}}
+        for name, node in nodes(ast.Call):
+            if isinstance(node.func, ast.Name) and hasattr(builtins, node.func.id):
+                given = {keyword.arg for keyword in node.keywords}
+                self.assertLessEqual(given, kept.get(node.func.id, set()), f"{name}:{node.lineno}")
 
     def test_methods(self):
         for name, node in nodes(ast.Call):
