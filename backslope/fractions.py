@@ -29,8 +29,6 @@ def f_plus(F, G):
     shared = common(F[1], G[1])
     rest = quotient(G[1], shared)
     top = p_plus(p_times(F[0], rest), p_times(G[0], quotient(F[1], shared)))
-    if not top:
-        return f_poly(())
     spare = common(top, shared)
     return (quotient(top, spare), quotient(p_times(F[1], rest), spare))
 
@@ -56,7 +54,7 @@ def f_slope(F):
     shared = common(F[1], slope)
     rest = quotient(F[1], shared)
     top = p_minus(p_times(p_slope(F[0]), rest), p_times(F[0], quotient(slope, shared)))
-    return (top, p_times(F[1], rest)) if top else f_poly(())
+    return (top, p_times(F[1], rest))
 
 
 def f_at(F, c):

@@ -138,7 +138,8 @@ def guessed(places, modulus):
     return ([nearest(place * bottom, modulus) for place in places], bottom)
 
 
-# The bottom of the fraction that leaves this whole number, where its top is at most limit.
+# The bottom of the fraction that leaves this whole number and has a top of limit at most. Euclid's weights, of which
+# it is one, change their sign at each step: so their sizes add up.
 def bottom_modulo(whole, modulus, limit):
     one = modulus
     other = whole
@@ -149,7 +150,7 @@ def bottom_modulo(whole, modulus, limit):
         rest = one - quotient * other
         one = other
         other = rest
-        rest = one_weight - quotient * other_weight
+        size = one_weight + quotient * other_weight
         one_weight = other_weight
-        other_weight = rest
-    return abs(other_weight)
+        other_weight = size
+    return other_weight

@@ -11,16 +11,13 @@ from backslope.wholes import (
 # is great enough; and there it comes from a root modulo a prime. Nothing has to be parted into primes for that.
 def rational_roots(P):
     row = simple_row(cleared(P)[0])
-    wholes = []
-    if row[0] == 0:
-        wholes.append(0)
-        row = row[1:]
     prime = 2
     starts = starts_modulo(row, prime)
     while starts is None:
         prime = prime_after(prime)
         starts = starts_modulo(row, prime)
     floor = row[-1] << (max(root_exponent(row), 0) + 1)
+    wholes = []
     for start in starts:
         found = lifted(row, [-start, 1], prime, floor)
         whole = nearest(-found[0][0] * row[-1], found[1])

@@ -222,6 +222,7 @@ class Least(PartsCase):
         for prime in (2, 2 ** 31 - 1, 2 ** 61 - 1, 2 ** 127 - 1):
             self.held(((1, prime), ONE, ONE), ((2, prime), NOUGHT, ONE, ONE))
             self.held(whole([1, prime]), whole([1, 0, 3, 1]))
+            self.same(least(whole([0, prime]), whole([-2, 0, 1])), whole([-2 * prime ** 2, 0, 1]))
             self.held(whole([1, prime, 1]), whole([-2, 0, 0, 1]))
 
     def test_great_degrees(self):
