@@ -105,7 +105,8 @@ class Roots(unittest.TestCase):
         chance = Random(71)
         found = 0
         for time in range(400):
-            wholes = [chance.randrange(-30, 31) for place in range(chance.randrange(2, 7))] + [chance.randrange(1, 31)]
+            wholes = [chance.randrange(-30, 31) for place in range(chance.randrange(2, 7))]
+            wholes.append(chance.choice((1, -1)) * chance.randrange(1, 31))
             if time % 2:
                 wholes = [number[0] for number in p_times(whole(wholes), line(chance.randrange(-5, 6), 2))]
             tried = roots_tried(wholes)
