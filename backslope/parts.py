@@ -1,12 +1,14 @@
 """Parts of a polynomial by how often they stand in it, reckoning modulo a polynomial, and which parts meet if moved."""
 
-from backslope.linear import crossed, solved
+from backslope.linear import crossed, guessed, solved
 from backslope.numbers import minus
-from backslope.polys import bezout, cleared, degree, number_of, p_plus, p_split, p_times, poly, uncleared
+from backslope.places import rational_roots
+from backslope.polys import (
+    bezout, cleared, common, degree, number_of, p_minus, p_plus, p_scaled, p_split, p_times, poly, uncleared)
 from backslope.wholes import (
-    FIRST_PRIME, euclid_modulo, inverse_modulo, lifted, monic_modulo, nearest, other_prime, prime_after,
-    reduced_modulo, rest_modulo, root_exponent, row_common, row_less, row_moved, row_over, row_shortened, row_slope,
-    row_times, row_trimmed, simple_row, split_modulo)
+    FIRST_PRIME, dot, euclid_modulo, inverse_modulo, inverse_rest, lifted, monic_modulo, nearest, other_prime,
+    prime_after, reduced_modulo, rest_modulo, root_exponent, row_common, row_less, row_moved, row_over, row_shortened,
+    row_slope, row_times, row_trimmed, simple_row, split_modulo)
 
 
 def simple_parts(P):
@@ -77,6 +79,124 @@ def least_rank(row, divisor):
         powers.append(power + [0] * (width - len(power)))
         power = rest_modulo(row_times(power, row), modulus, prime)
     return len(reduced_modulo(powers, prime)[2])
+
+
+# least(P * inverse(Q, W), W), where Q and W have no common factor and W has no double one. The numbers of that inverse
+# would be far longer than the outcome's, so it is only reckoned with modulo powers of a prime.
+def least_over(P, Q, W):
+    prime = FIRST_PRIME
+    found = least_by_prime(P, Q, W, prime)
+    while found is None:
+        prime = other_prime(prime)
+        found = least_by_prime(P, Q, W, prime)
+    return found
+
+
+# None where the prime doesn't tell. W has no double factor, so the least polynomial is nought just at the worths of P
+# over Q at W's places, each once. Not all of them may be unlike modulo the prime: then it has more than are unlike
+# there. With as many, and nought at P over Q, it is the least one.
+def least_by_prime(P, Q, W, prime):
+    if not is_fit(P, Q, W, prime):
+        return None
+    modulus = prime
+    weight = inverse_rest(rests_of(Q, prime), rests_of(W, prime), prime)
+    many = many_unlike(worths_modulo(P, weight, W, prime), prime)
+    while True:
+        guess = guessed(worths_modulo(P, weight, W, modulus)[:-1], modulus)
+        if guess is not None:
+            m = radical(uncleared(guess[0] + [guess[1]], guess[1]))
+            if has_worths(m, P, Q, W):
+                return m if degree(m) == many else None
+        modulus *= modulus
+        weight = inverse_lifted(weight, rests_of(Q, modulus), rests_of(W, modulus), modulus)
+
+
+# Whether m, which has no double factor, is nought at the worths of P over Q at all places of W. Those that are numbers
+# are soon tried one by one; mostly few places are left then.
+def has_worths(m, P, Q, W):
+    left = W
+    for c in rational_roots(m):
+        m = p_split(m, (minus((0, 1), c), (1, 1)))[0]
+        left = p_split(left, common(left, p_minus(P, p_scaled(Q, c))))[0]
+    return degree(left) == 0 or is_nought_over(m, P, Q, left)
+
+
+# Whether m(P over Q) is nought modulo W, where Q and W have no common factor. It is taken times Q to m's degree, and
+# times whatever whole number spares the search for lowest terms: what is nought stays so, and what isn't too.
+def is_nought_over(m, P, Q, W):
+    divisor = cleared(W)[0]
+    one = p_split(P, W)[1]
+    both = cleared(one + p_split(Q, W)[1])[0]
+    value = []
+    scale = [1]
+    for whole in reversed(cleared(m)[0]):
+        value = row_less(rest_scaled(row_times(value, both[:len(one)]), divisor), 1, scale, -whole, 0)
+        scale = rest_scaled(row_times(scale, both[len(one):]), divisor)
+    return not any(value)
+
+
+# The rest of a product of two rests, always as many times as great: the divisor's last number to the same power.
+def rest_scaled(row, divisor):
+    last = len(divisor) - 1
+    left = row + [0] * (2 * last - 1 - len(row))
+    while len(left) > last:
+        weight = left.pop()
+        shift = len(left) - last
+        left = [divisor[-1] * whole for whole in left]
+        for place in range(last):
+            left[shift + place] -= weight * divisor[place]
+    return left
+
+
+def is_fit(P, Q, W, prime):
+    if cleared(P + Q + W)[1] % prime == 0:
+        return False
+    return len(euclid_modulo(rests_of(Q, prime), rests_of(W, prime), prime)) == 1
+
+
+def rests_of(P, modulus):
+    return [number[0] * inverse_modulo(number[1], modulus) % modulus for number in P]
+
+
+def many_unlike(row, prime):
+    return len(row) - len(euclid_modulo(row, row_slope(row), prime))
+
+
+# From the inverse of a row modulo the root of this modulus to the one modulo the modulus itself.
+def inverse_lifted(weight, row, divisor, modulus):
+    spare = row_less([2], 1, rest_modulo(row_times(row, weight), divisor, modulus), 1, 0)
+    return rest_modulo(row_times(weight, spare), divisor, modulus)
+
+
+# The product of t less the worth of P times weight, for all places of W. It comes from the sums of the worths' powers.
+def worths_modulo(P, weight, W, modulus):
+    divisor = rests_of(W, modulus)
+    row = rest_modulo(row_times(rests_of(P, modulus), weight), divisor, modulus)
+    sums = sums_modulo(divisor, modulus)
+    power = [1]
+    found = []
+    for step in range(degree(W)):
+        power = rest_modulo(row_times(power, row), divisor, modulus)
+        found.append(dot(power, sums) % modulus)
+    return row_of_sums(found, modulus)
+
+
+# The sums of the places' powers, from the power 0 on, by Newton's rule; row_of_sums is the way back.
+def sums_modulo(divisor, modulus):
+    last = len(divisor) - 1
+    sums = []
+    for step in range(1, last):
+        beside = [divisor[last - place] * sums[step - 1 - place] for place in range(1, step)]
+        sums.append(-(step * divisor[last - step] + sum(beside)) % modulus)
+    return [last] + sums
+
+
+def row_of_sums(sums, modulus):
+    falling = [1]
+    for step in range(1, len(sums) + 1):
+        found = dot(falling, sums[step - 1::-1])
+        falling.append(-found * inverse_modulo(step, modulus) % modulus)
+    return falling[::-1]
 
 
 # Each h is tried that is a likely one.

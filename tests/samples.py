@@ -4,7 +4,8 @@ from fractions import Fraction
 from math import gcd
 from random import Random
 
-from backslope.polys import common, p_times
+from backslope.fractions import fraction
+from backslope.polys import common, degree, p_slope, p_times
 
 NOUGHT = (0, 1)
 ONE = (1, 1)
@@ -76,6 +77,30 @@ def is_fraction(value):
         return False
     top, bottom = value
     return bottom != () and bottom[-1] == ONE and common(top, bottom) == (ONE,)
+
+
+def is_form(value):
+    if type(value) is not tuple or len(value) != 2 or not is_fraction(value[0]) or not is_logs(value[1]):
+        return False
+    polynomials = [v for c, v in value[1]]
+    apart = [common(v, w) for place, v in enumerate(polynomials) for w in polynomials[:place]]
+    return all(shared == (ONE,) for shared in apart)
+
+
+def is_logs(value):
+    if type(value) is not tuple or any(type(pair) is not tuple or len(pair) != 2 for pair in value):
+        return False
+    for c, v in value:
+        if not is_number(c) or c == NOUGHT or not is_poly(v) or degree(v) < 1 or v[-1] != ONE:
+            return False
+        if common(v, p_slope(v)) != (ONE,):
+            return False
+    numbers = [Fraction(*c) for c, v in value]
+    return all(one < other for one, other in zip(numbers, numbers[1:]))
+
+
+def drawn_fraction(chance, top, bottom, figures, draw=drawn_number):
+    return fraction(drawn_poly(chance, top, figures, draw), drawn_poly(chance, bottom, figures, draw))
 
 
 def line(top, bottom=1):

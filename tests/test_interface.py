@@ -19,6 +19,11 @@ NAMES = {
     "fractions": {"fraction": ["P", "Q"], "f_plus": ["F", "G"], "f_minus": ["F", "G"], "f_times": ["F", "G"],
                   "f_over": ["F", "G"], "f_slope": ["F"], "f_at": ["F", "c"], "f_moved": ["F", "c"],
                   "f_poly": ["P"], "f_number": ["c"]},
+    "texts": {"read": ["text", "letters"], "read_x": ["text"], "show_number": ["c"], "show_poly": ["P"], "show": ["F"]},
+    "forms": {"settled": ["R", "rows"], "form_slope": ["form"], "form_plus": ["one", "other"],
+              "form_scaled": ["form", "c"]},
+    "back": {"hermite": ["f"], "residue_parts": ["A", "D"], "back": ["f"]},
+    "backpaper": {"shows_form": ["f", "form"], "shows_none": ["f", "paper"]},
 }
 
 

@@ -48,6 +48,12 @@ def bound_names(function):
     return names
 
 
+def own_methods():
+    classes = [node for name, node in nodes(ast.ClassDef)]
+    return [part.name for node in classes for part in node.body
+            if isinstance(part, ast.FunctionDef) and part.name != "__init__"]
+
+
 class Language(unittest.TestCase):
     def test_files(self):
         for path in PACKAGE.iterdir():
@@ -153,9 +159,31 @@ class Language(unittest.TestCase):
                 self.assertLessEqual(given, kept.get(node.func.id, set()), f"{name}:{node.lineno}")
 
     def test_methods(self):
+        own = own_methods()
+        self.assertEqual(len(own), len(set(own)))
+        for method in own:
+            for kind in (str, int, list, dict, set, bytes):
+                self.assertFalse(hasattr(kind, method), method)
         for name, node in nodes(ast.Call):
             if isinstance(node.func, ast.Attribute):
-                self.assertIn(node.func.attr, METHODS, name)
+                self.assertIn(node.func.attr, METHODS | set(own), name)
+
+    def test_values_of_objects(self):
+        own = own_methods()
+        for name, node in nodes(ast.Attribute):
+            if isinstance(node.ctx, ast.Store):
+                self.assertIsInstance(node.value, ast.Name, name)
+                self.assertNotIn(node.attr, own, name)
+                for kind in (str, int, list, dict, set, bytes):
+                    self.assertFalse(hasattr(kind, node.attr), node.attr)
+
+    def test_texts(self):
+        for name, node in nodes(ast.FormattedValue):
+            self.assertIsInstance(node.value, ast.Name, name)
+            self.assertIsNone(node.format_spec, name)
+        for name, node in nodes(ast.Constant):
+            if isinstance(node.value, str):
+                self.assertNotIn("%", node.value, name)
 
     def test_walked_on_the_spot(self):
         for name, tree in trees():
@@ -165,6 +193,9 @@ class Language(unittest.TestCase):
                     fine.append(node.iter)
                 if isinstance(node, ast.Call) and isinstance(node.func, ast.Name) and node.func.id in WALKERS:
                     fine += node.args[:1]
+                if isinstance(node, ast.Call) and isinstance(node.func, ast.Attribute) and node.func.attr == "join":
+                    self.assertIsInstance(node.func.value, ast.Constant, name)
+                    fine += node.args
             for node in ast.walk(tree):
                 if isinstance(node, ast.Call) and isinstance(node.func, ast.Name) and node.func.id in WALKED:
                     self.assertIn(node, fine, f"{name}:{node.lineno}")

@@ -1,7 +1,8 @@
 import unittest
 from random import Random
 
-from backslope.parts import inverse, least, meets, put_into, radical, simple_parts
+from backslope.parts import (
+    inverse, is_nought_over, least, least_over, meets, put_into, radical, simple_parts)
 from backslope.polys import (
     common, degree, monic, p_moved, p_plus, p_power, p_scaled, p_slope, p_split, p_times, poly)
 from samples import (
@@ -272,6 +273,50 @@ class PutInto(PartsCase):
         m = drawn_poly(chance, 100, 12)
         self.same(put_into(m, X, whole([-1] + [0] * 99 + [1])), poly([p_plus(m[:1], m[100:])[0]] + list(m[1:100])))
         self.same(put_into(m, X, line(1)), put_into(m, UNIT, X))
+
+
+class Over(PartsCase):
+    """What the way back needs of a quotient modulo W without double factors."""
+
+    def held(self, P, Q, W):
+        quotient = p_times(P, inverse(Q, W))
+        m = least(quotient, W)
+        self.same(least_over(P, Q, W), m)
+        for other in (m, p_times(m, X), p_scaled(m, (-2, 3)), p_plus(m, UNIT), X, UNIT, whole([1, 0, 1])):
+            self.assertIs(is_nought_over(other, P, Q, W), put_into(other, quotient, W) == ())
+
+    def test_all_samples(self):
+        for W in PRIMES + (product(PRIMES[:5]), p_times(PRIMES[5], PRIMES[8])):
+            for P in polys()[:11]:
+                for Q in (UNIT, whole([3, 1]), p_slope(W), p_times(p_slope(W), whole([5, 0, 0, 0, 1])), ((3, 7), (1, 2))):
+                    self.held(P, Q, W)
+
+    def test_numbers_at_some_places(self):
+        W = product(PRIMES[:6])
+        for part in PRIMES[:6]:
+            for c in (NOUGHT, ONE, (-3, 7)):
+                P = p_plus(p_times(part, whole([2, 5])), p_scaled(p_slope(W), c))
+                self.held(P, p_slope(W), W)
+
+    def test_drawn_ones(self):
+        chance = Random(87)
+        for high in range(1, 6):
+            for figures in (1, 12):
+                W = monic(drawn_poly(chance, high, figures))
+                self.held(drawn_poly(chance, high + 2, figures), drawn_poly(chance, high, figures), W)
+
+    def test_primes_that_do_not_tell(self):
+        for prime in (2 ** 31 - 1, 2 ** 61 - 1, 2 ** 127 - 1):
+            self.held(X, UNIT, p_times(line(1), line(prime + 1)))
+            self.held(X, UNIT, p_times(line(1), line(1 - 2 * prime)))
+            self.held(X, whole([prime]), PRIMES[4])
+            self.held(((1, prime), ONE), whole([3, 1]), PRIMES[4])
+            self.held(whole([1, 1]), whole([prime, 0, 1]), product([X, line(2), PRIMES[4]]))
+            self.held(whole([1, 1]), whole([prime, 1]), product([X, line(3), PRIMES[4]]))
+            self.held(UNIT, whole([3, 1]), whole([prime, 0, 1]))
+            self.held(UNIT, X, line(prime))
+            self.held(UNIT, X, ((-1, prime), ONE))
+            self.held(X, UNIT, ((2, prime), NOUGHT, ONE))
 
 
 class Meets(PartsCase):

@@ -1,0 +1,77 @@
+"""The way back from a slope: a form that has it, or a paper which shows that there is none."""
+
+from backslope.fractions import f_plus, f_poly, fraction, quotient
+from backslope.linear import solved
+from backslope.numbers import minus, over
+from backslope.parts import least_over, numbers_at
+from backslope.places import rational_roots
+from backslope.polys import common, degree, number_of, p_minus, p_scaled, p_slope, p_split, p_times, poly
+
+
+# The bottom is spare * simple, spare with each factor once less often. What is looked for is B over spare, and A over
+# simple, of lesser degrees above: B's and A's numbers are the one solution of as many equations.
+def hermite(f):
+    whole = p_split(f[0], f[1])
+    spare = common(f[1], p_slope(f[1]))
+    simple = quotient(f[1], spare)
+    columns = columns_for(spare, simple)
+    rows = [numbers_at(columns, place) for place in range(degree(f[1]))]
+    due = [number_of(whole[1], place) for place in range(degree(f[1]))]
+    found = list(solved(rows, due)[1])
+    B = poly(found[:degree(spare)])
+    rest = fraction(poly(found[degree(spare):]), simple)
+    return (f_plus(f_poly(risen(whole[0])), fraction(B, spare)), rest[0], rest[1])
+
+
+# What the slope of x ^ i over spare, and x ^ i over simple, come to above the whole bottom.
+def columns_for(spare, simple):
+    turn = quotient(p_times(p_slope(spare), simple), spare)
+    columns = []
+    for i in range(degree(spare)):
+        columns.append(p_minus(p_times(p_slope(x_to(i)), simple), p_times(x_to(i), turn)))
+    for i in range(degree(simple)):
+        columns.append(p_times(x_to(i), spare))
+    return columns
+
+
+def x_to(i):
+    return ((0, 1),) * i + ((1, 1),)
+
+
+# A polynomial whose slope is P.
+def risen(P):
+    return poly([(0, 1)] + [over(number, (place, 1)) for place, number in enumerate(P, start=1)])
+
+
+def residue_parts(A, D):
+    return parts_at(A, D, rational_roots(residue_least(A, D)))
+
+
+# The polynomial of all residues, each once: at a place of D the residue is A over D's slope.
+def residue_least(A, D):
+    if degree(D) == 0:
+        return ((1, 1),)
+    return least_over(A, p_slope(D), D)
+
+
+def parts_at(A, D, residues):
+    rows = []
+    left = D
+    for c in residues:
+        v = common(D, p_minus(A, p_scaled(p_slope(D), c)))
+        rows.append((c, v))
+        left = quotient(left, v)
+    return (tuple(rows), left)
+
+
+def back(f):
+    ends = hermite(f)
+    m = residue_least(ends[1], ends[2])
+    residues = rational_roots(m)
+    parts = parts_at(ends[1], ends[2], residues)
+    if degree(parts[1]) == 0:
+        return ("told", (ends[0], parts[0]))
+    # The residues at the places that are left are no numbers, and just they are roots of what is left of m.
+    for c in residues:
+        m = quotient(m, (minus((0, 1), c), (1, 1)))
+    return ("none", ends + (parts[1], m))
