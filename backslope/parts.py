@@ -114,11 +114,12 @@ def least_by_prime(P, Q, W, prime):
 # Whether m, which has no double factor, is nought at the worths of P over Q at all places of W. Those that are numbers
 # are soon tried one by one; mostly few places are left then.
 def has_worths(m, P, Q, W):
+    wild = m
     left = W
     for c in rational_roots(m):
-        m = p_split(m, (minus((0, 1), c), (1, 1)))[0]
+        wild = p_split(wild, (minus((0, 1), c), (1, 1)))[0]
         left = p_split(left, common(left, p_minus(P, p_scaled(Q, c))))[0]
-    return degree(left) == 0 or is_nought_over(m, P, Q, left)
+    return degree(left) == 0 or is_nought_over(wild, P, Q, left)
 
 
 # Whether m(P over Q) is nought modulo W, where Q and W have no common factor. It is taken times Q to m's degree, and
