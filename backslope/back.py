@@ -5,7 +5,7 @@ from backslope.linear import solved
 from backslope.numbers import minus, over
 from backslope.parts import least_over, numbers_at
 from backslope.places import rational_roots
-from backslope.polys import common, degree, number_of, p_minus, p_scaled, p_slope, p_split, p_times, poly
+from backslope.polys import common, degree, number_of, p_minus, p_scaled, p_slope, p_split, p_times, poly, x_to
 
 
 # The bottom is spare * simple, spare with each factor once less often. What is looked for is B over spare, and A over
@@ -32,10 +32,6 @@ def columns_for(spare, simple):
     for i in range(degree(simple)):
         columns.append(p_times(x_to(i), spare))
     return columns
-
-
-def x_to(i):
-    return ((0, 1),) * i + ((1, 1),)
 
 
 # A polynomial whose slope is P.

@@ -6,9 +6,13 @@ from backslope.polys import common, p_at, p_minus, p_moved, p_plus, p_scaled, p_
 
 def fraction(P, Q):
     shared = common(P, Q)
-    bottom = quotient(Q, shared)
-    factor = over((1, 1), bottom[-1])
-    return (p_scaled(quotient(P, shared), factor), p_scaled(bottom, factor))
+    return evened(quotient(P, shared), quotient(Q, shared))
+
+
+# P over Q where they have no common factor.
+def evened(P, Q):
+    factor = over((1, 1), Q[-1])
+    return (p_scaled(P, factor), p_scaled(Q, factor))
 
 
 # Here nothing is left of P by Q.

@@ -32,6 +32,10 @@ def number_of(P, place):
     return P[place] if place < len(P) else (0, 1)
 
 
+def x_to(i):
+    return ((0, 1),) * i + ((1, 1),)
+
+
 def p_plus(P, Q):
     return poly([plus(number_of(P, place), number_of(Q, place)) for place in range(max(len(P), len(Q)))])
 

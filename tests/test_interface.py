@@ -24,6 +24,10 @@ NAMES = {
               "form_scaled": ["form", "c"]},
     "back": {"hermite": ["f"], "residue_parts": ["A", "D"], "back": ["f"]},
     "backpaper": {"shows_form": ["f", "form"], "shows_none": ["f", "paper"]},
+    "roots": {"x_of": ["kind"], "read_root": ["kind", "text"], "parted": ["kind", "g"], "joined": ["kind", "parts"],
+              "root_slope": ["kind", "form"], "root_back": ["kind", "g"], "root_shows": ["kind", "g", "paper"]},
+    "sums": {"steps_of": ["r"], "top_of": ["a", "b", "c"], "summed": ["r"], "sum_of": ["F"]},
+    "sumpaper": {"shows_sum": ["r", "s"], "shows_no_sum": ["r", "paper"]},
 }
 
 

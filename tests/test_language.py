@@ -86,6 +86,14 @@ class Language(unittest.TestCase):
             for alias in node.names:
                 self.assertIn(alias.name, defined)
 
+    def test_imports_are_used(self):
+        for name, tree in trees():
+            used = [node.id for node in ast.walk(tree) if isinstance(node, ast.Name)]
+            for node in tree.body:
+                if isinstance(node, ast.ImportFrom):
+                    for alias in node.names:
+                        self.assertIn(alias.name, used, name)
+
     def test_no_two_files_draw_from_one_another(self):
         drawn = {name[:-3]: set() for name, tree in trees()}
         for name, node in nodes(ast.ImportFrom):
