@@ -1,11 +1,10 @@
 """The way back from a slope: a form that has it, or a paper which shows that there is none."""
 
 from backslope.fractions import f_plus, f_poly, fraction, quotient
-from backslope.linear import solved
-from backslope.numbers import minus, over
-from backslope.parts import least_over, numbers_at
+from backslope.numbers import over
+from backslope.parts import least_over, made_of
 from backslope.places import rational_roots
-from backslope.polys import common, degree, number_of, p_minus, p_scaled, p_slope, p_split, p_times, poly, x_to
+from backslope.polys import common, degree, p_minus, p_scaled, p_slope, p_split, p_times, poly, x_less, x_to
 
 
 # The bottom is spare * simple, spare with each factor once less often. What is looked for is B over spare, and A over
@@ -14,10 +13,7 @@ def hermite(f):
     whole = p_split(f[0], f[1])
     spare = common(f[1], p_slope(f[1]))
     simple = quotient(f[1], spare)
-    columns = columns_for(spare, simple)
-    rows = [numbers_at(columns, place) for place in range(degree(f[1]))]
-    due = [number_of(whole[1], place) for place in range(degree(f[1]))]
-    found = list(solved(rows, due)[1])
+    found = list(made_of(columns_for(spare, simple), whole[1])[1])
     B = poly(found[:degree(spare)])
     rest = fraction(poly(found[degree(spare):]), simple)
     return (f_plus(f_poly(risen(whole[0])), fraction(B, spare)), rest[0], rest[1])
@@ -40,34 +36,40 @@ def risen(P):
 
 
 def residue_parts(A, D):
-    return parts_at(A, D, rational_roots(residue_least(A, D)))
+    slope = p_slope(D)
+    return parts_at(A, slope, D, rational_roots(residue_least(A, slope, D)))
 
 
-# The polynomial of all residues, each once: at a place of D the residue is A over D's slope.
-def residue_least(A, D):
-    if degree(D) == 0:
-        return ((1, 1),)
-    return least_over(A, p_slope(D), D)
+# The polynomial of all residues at D's places, each once. The slope is that of the whole bottom below A, in which D's
+# factors stand once: so the residue is A over the slope there.
+def residue_least(A, slope, D):
+    return least_over(A, slope, D) if degree(D) > 0 else ((1, 1),)
 
 
-def parts_at(A, D, residues):
+def parts_at(A, slope, D, residues):
     rows = []
     left = D
     for c in residues:
-        v = common(D, p_minus(A, p_scaled(p_slope(D), c)))
+        v = common(D, p_minus(A, p_scaled(slope, c)))
         rows.append((c, v))
         left = quotient(left, v)
     return (tuple(rows), left)
 
 
+# Here m is nought at each of these places, once.
+def without_places(m, places):
+    for c in places:
+        m = quotient(m, x_less(c))
+    return m
+
+
 def back(f):
     ends = hermite(f)
-    m = residue_least(ends[1], ends[2])
+    slope = p_slope(ends[2])
+    m = residue_least(ends[1], slope, ends[2])
     residues = rational_roots(m)
-    parts = parts_at(ends[1], ends[2], residues)
+    parts = parts_at(ends[1], slope, ends[2], residues)
     if degree(parts[1]) == 0:
         return ("told", (ends[0], parts[0]))
     # The residues at the places that are left are no numbers, and just they are roots of what is left of m.
-    for c in residues:
-        m = quotient(m, (minus((0, 1), c), (1, 1)))
-    return ("none", ends + (parts[1], m))
+    return ("none", ends + (parts[1], without_places(m, residues)))

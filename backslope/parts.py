@@ -1,10 +1,9 @@
 """Parts of a polynomial by how often they stand in it, reckoning modulo a polynomial, and which parts meet if moved."""
 
 from backslope.linear import crossed, guessed, solved
-from backslope.numbers import minus
 from backslope.places import rational_roots
 from backslope.polys import (
-    bezout, cleared, common, degree, number_of, p_minus, p_plus, p_scaled, p_split, p_times, poly, uncleared)
+    bezout, cleared, common, degree, number_of, p_minus, p_plus, p_scaled, p_split, p_times, poly, uncleared, x_less)
 from backslope.wholes import (
     FIRST_PRIME, dot, euclid_modulo, inverse_modulo, inverse_rest, lifted, monic_modulo, nearest, other_prime,
     prime_after, reduced_modulo, rest_modulo, root_exponent, row_common, row_less, row_moved, row_over, row_shortened,
@@ -56,14 +55,21 @@ def least(P, W):
     while told[0] == "none":
         while len(powers) <= many:
             powers.append(p_split(p_times(powers[-1], rest), W)[1])
-        rows = [numbers_at(powers[:many], place) for place in range(degree(W))]
-        told = solved(rows, [minus((0, 1), number_of(powers[many], place)) for place in range(degree(W))])
+        told = made_of(powers[:many], p_minus((), powers[many]))
         many += 1
     return poly(list(told[1]) + [(1, 1)])
 
 
-def numbers_at(powers, place):
-    return [number_of(P, place) for P in powers]
+# How many times each of the columns, which are polynomials, makes up P, as solved tells it: an equation for each power,
+# one at least, as without any there would be no unknowns.
+def made_of(columns, P):
+    many = max([1] + [len(column) for column in columns + [P]])
+    rows = [numbers_at(columns, place) for place in range(many)]
+    return solved(rows, [number_of(P, place) for place in range(many)])
+
+
+def numbers_at(columns, place):
+    return [number_of(P, place) for P in columns]
 
 
 # How many powers in a row are not made of one another modulo a prime, and so over the numbers too.
@@ -117,7 +123,7 @@ def has_worths(m, P, Q, W):
     wild = m
     left = W
     for c in rational_roots(m):
-        wild = p_split(wild, (minus((0, 1), c), (1, 1)))[0]
+        wild = p_split(wild, x_less(c))[0]
         left = p_split(left, common(left, p_minus(P, p_scaled(Q, c))))[0]
     return degree(left) == 0 or is_nought_over(wild, P, Q, left)
 

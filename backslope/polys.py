@@ -36,6 +36,10 @@ def x_to(i):
     return ((0, 1),) * i + ((1, 1),)
 
 
+def x_less(c):
+    return (minus((0, 1), c), (1, 1))
+
+
 def p_plus(P, Q):
     return poly([plus(number_of(P, place), number_of(Q, place)) for place in range(max(len(P), len(Q)))])
 

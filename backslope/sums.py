@@ -2,10 +2,9 @@
 
 from backslope.errors import TooGreat
 from backslope.fractions import f_moved, f_over, f_times, fraction, quotient
-from backslope.linear import solved
 from backslope.numbers import minus, over
-from backslope.parts import meets, numbers_at
-from backslope.polys import common, degree, number_of, p_minus, p_moved, p_times, poly, x_to
+from backslope.parts import made_of, meets
+from backslope.polys import common, degree, p_minus, p_moved, p_times, poly, x_to
 
 MOST_APART = 24
 MOST_TOP = 30
@@ -49,10 +48,7 @@ def summed(r):
     top = top_of(ends[0], ends[1], ends[2])
     if top is not None and top > MOST_TOP:
         raise TooGreat(f"the degree may be above {MOST_TOP}")
-    columns = columns_of(ends[0], ends[1], -1 if top is None else top)
-    most = max([len(P) for P in columns + [ends[2]]])
-    rows = [numbers_at(columns, place) for place in range(most)]
-    told = solved(rows, [number_of(ends[2], place) for place in range(most)])
+    told = made_of(columns_of(ends[0], ends[1], -1 if top is None else top), ends[2])
     if told[0] == "none":
         return ("none", ends + (told[1],))
     return ("told", fraction(p_times(p_moved(ends[1], (-1, 1)), poly(list(told[1]))), ends[2]))

@@ -1,14 +1,19 @@
 """What the tests draw on: samples that are the same in every run, and checks of kinds."""
 
+from decimal import Context, Decimal
 from fractions import Fraction
+from functools import cache
 from math import gcd
 from random import Random
 
-from backslope.fractions import fraction
-from backslope.polys import common, degree, p_slope, p_times
+from backslope.fractions import f_plus, f_slope, f_times, fraction
+from backslope.linear import solved
+from backslope.polys import common, degree, number_of, p_slope, p_times
 
 NOUGHT = (0, 1)
 ONE = (1, 1)
+# Far more figures than the logarithms here are told apart by.
+FIGURES = Context(prec=400)
 
 
 def lowest(top, bottom):
@@ -99,6 +104,37 @@ def is_logs(value):
     return all(one < other for one, other in zip(numbers, numbers[1:]))
 
 
+def is_settled_number(value):
+    """Whether it is a log number, the r of which are whole, from 2 on, rising, no two with a common factor."""
+    if type(value) is not tuple or len(value) != 2 or not is_number(value[0]) or type(value[1]) is not tuple:
+        return False
+    for pair in value[1]:
+        if type(pair) is not tuple or len(pair) != 2 or not all(is_number(part) for part in pair) or pair[0] == NOUGHT:
+            return False
+    wholes = [r[0] for c, r in value[1]]
+    if any(r[1] != 1 or r[0] < 2 for c, r in value[1]) or wholes != sorted(wholes):
+        return False
+    return all(gcd(one, other) == 1 for place, one in enumerate(wholes) for other in wholes[:place])
+
+
+def decimal(number):
+    return FIGURES.divide(Decimal(number[0]), Decimal(number[1]))
+
+
+@cache
+def log_of(number):
+    return FIGURES.ln(Decimal(number))
+
+
+def log_worth(q, rows):
+    """q and the sum of c times log r, to some hundred figures, by another way than the program's."""
+    total = decimal(q)
+    for c, r in rows:
+        less = FIGURES.subtract(log_of(r[0]), log_of(r[1]))
+        total = FIGURES.add(total, FIGURES.multiply(decimal(c), less))
+    return total
+
+
 def drawn_fraction(chance, top, bottom, figures, draw=drawn_number):
     return fraction(drawn_poly(chance, top, figures, draw), drawn_poly(chance, bottom, figures, draw))
 
@@ -106,6 +142,11 @@ def drawn_fraction(chance, top, bottom, figures, draw=drawn_number):
 def line(top, bottom=1):
     """A polynomial of degree 1 that is nought at top over bottom alone."""
     return whole([-top, bottom])
+
+
+def left_side(f, y):
+    """y' + f y."""
+    return f_plus(f_slope(y), f_times(f, y))
 
 
 def product(factors):
@@ -129,6 +170,27 @@ def rank(rows):
                     left[place] = [one - factor * other for one, other in zip(left[place], left[found])]
             found += 1
     return found
+
+
+def weight_of(weights, P):
+    """The weights' sum with P's numbers, what is missing on either side being nought."""
+    return sum(Fraction(*weight) * Fraction(*number) for weight, number in zip(weights, P))
+
+
+def weights_by(columns, due):
+    """Weights whose sums with the polynomials are just these numbers, None where there are none; and those with noughts."""
+    wide = max(len(P) for P in columns)
+    told = solved([[number_of(P, place) for place in range(wide)] for P in columns], due)
+    return (told[1], told[2]) if told[0] == "told" else (None, ())
+
+
+def failing_weights(rest, one, kept):
+    """Weights that neither the kept one nor the one goes out with, but all the rest; None where there are none."""
+    for share in (ONE, (2, 1), (-1, 3)):
+        found = weights_by(rest + [one, kept], [NOUGHT] * len(rest) + [share, ONE])[0]
+        if found is not None:
+            return found
+    return None
 
 
 def weighted(one, other):

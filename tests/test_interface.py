@@ -28,6 +28,13 @@ NAMES = {
               "root_slope": ["kind", "form"], "root_back": ["kind", "g"], "root_shows": ["kind", "g", "paper"]},
     "sums": {"steps_of": ["r"], "top_of": ["a", "b", "c"], "summed": ["r"], "sum_of": ["F"]},
     "sumpaper": {"shows_sum": ["r", "s"], "shows_no_sum": ["r", "paper"]},
+    "slopes": {"hold_of": ["f", "g"], "bottom_of": ["g", "rows"], "reduced": ["f", "g", "T"], "top_for": ["p", "q", "s"],
+               "solve": ["f", "g"]},
+    "slopepaper": {"shows_solution": ["f", "g", "y"], "shows_only": ["f", "why"],
+                   "shows_no_solution": ["f", "g", "paper"]},
+    "lognumbers": {"settled_number": ["q", "rows"], "n_plus": ["one", "other"], "n_scaled": ["one", "c"],
+                   "sign_of": ["one"], "held": ["one", "width"]},
+    "limits": {"value_at": ["form", "c"], "limit": ["form", "place", "side"]},
 }
 
 

@@ -5,12 +5,12 @@ from random import Random
 
 from backslope.errors import TooGreat
 from backslope.fractions import f_minus, f_moved, f_number, f_over, f_plus, f_poly, f_times, fraction
-from backslope.linear import solved
 from backslope.parts import meets
 from backslope.polys import degree, number_of, p_minus, p_moved, p_plus, p_power, p_scaled, p_times, poly
 from backslope.sumpaper import shows_no_sum, shows_sum
 from backslope.sums import steps_of, summed, top_of
-from samples import NOUGHT, ONE, drawn_fraction, drawn_number, drawn_poly, line, lowest, polys, product, whole
+from samples import (
+    NOUGHT, ONE, drawn_fraction, drawn_number, drawn_poly, failing_weights, line, lowest, polys, product, weight_of, whole)
 
 X = whole([0, 1])
 NEXT = whole([1, 1])
@@ -19,11 +19,6 @@ ZERO = ((), UNIT)
 CIRCLE = whole([1, 0, 1])
 SQUARE = whole([-2, 0, 1])
 CUBE = whole([1, 1, 0, 1])
-
-
-def weight_of(weights, P):
-    """The weights' sum with P's numbers, what is missing on either side being nought."""
-    return sum(Fraction(*weight) * Fraction(*number_of(P, place)) for place, weight in enumerate(weights))
 
 
 def column(a, b, i):
@@ -242,22 +237,11 @@ class Papers(unittest.TestCase):
             if top is None:
                 continue
             for i in range(top + 1):
-                other = self.failing_at(a, b, c, i, [j for j in range(top + 1) if j != i])
+                other = failing_weights([column(a, b, j) for j in range(top + 1) if j != i], column(a, b, i), c)
                 if other is not None:
                     found[i] = True
                     self.false(r, (a, b, c, other))
         self.assertEqual(sorted(found), list(range(12)))
-
-    def failing_at(self, a, b, c, i, rest):
-        """Weights that c doesn't go out with, nor the column of i, but all others do; None where there are none."""
-        columns = [column(a, b, j) for j in rest + [i]] + [c]
-        wide = max(len(P) for P in columns)
-        rows = [[number_of(P, place) for place in range(wide)] for P in columns]
-        for share in (ONE, (2, 1), (-1, 3)):
-            told = solved(rows, [NOUGHT] * len(rest) + [share, ONE])
-            if told[0] == "told":
-                return told[1]
-        return None
 
     def test_one_weight_exchanged(self):
         chance = Random(251)
