@@ -4,7 +4,7 @@ A form means R and the sum of c times the logarithm of v's size.
 """
 
 from backslope.fractions import f_number, f_plus, f_slope, f_times, fraction, quotient
-from backslope.numbers import plus, times
+from backslope.numbers import plus, size_of, times
 from backslope.parts import simple_parts
 from backslope.polys import cleared, common, degree, p_scaled, p_slope, p_times
 
@@ -14,7 +14,7 @@ def settled(R, rows):
     for c, P in rows:
         for many, part in enumerate(simple_parts(P), start=1):
             logs = logs_plus(logs, times(c, (many, 1)), part)
-    heads = [(c, (abs(P[-1][0]), P[-1][1])) for c, P in rows]
+    heads = [(c, size_of(P[-1])) for c, P in rows]
     return ((R, logs), tuple(heads))
 
 

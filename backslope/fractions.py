@@ -1,7 +1,7 @@
 """Fractions: tuples (P, Q) of polynomials without a common factor, Q monic."""
 
 from backslope.numbers import over
-from backslope.polys import common, p_at, p_minus, p_moved, p_plus, p_scaled, p_slope, p_split, p_times, poly
+from backslope.polys import common, degree, p_at, p_minus, p_moved, p_plus, p_scaled, p_slope, p_split, p_times, poly
 
 
 def fraction(P, Q):
@@ -26,6 +26,10 @@ def f_poly(P):
 
 def f_number(c):
     return f_poly(poly([c]))
+
+
+def is_number(F):
+    return degree(F[0]) < 1 and degree(F[1]) == 0
 
 
 # What the top and the bottom of a sum have in common divides what the two bottoms have in common.

@@ -2,7 +2,7 @@
 
 from backslope.fractions import f_at, quotient
 from backslope.lognumbers import settled_number
-from backslope.numbers import over, plus, times
+from backslope.numbers import over, plus, size_of, times
 from backslope.polys import degree, p_at, x_less
 from backslope.texts import NOUGHT
 
@@ -13,10 +13,6 @@ def value_at(form, c):
     if q is None or any([r[0] == 0 for e, r in rows]):
         return None
     return settled_number(q, rows)
-
-
-def size_of(c):
-    return (abs(c[0]), c[1])
 
 
 # All goes by the way from the place to x, or at an end by one over x: it comes near nought, above it or below.

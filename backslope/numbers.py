@@ -30,6 +30,10 @@ def before(one, other):
     return one[0] * other[1] < other[0] * one[1]
 
 
+def size_of(one):
+    return (abs(one[0]), one[1])
+
+
 def floor_of(one):
     return one[0] // one[1]
 

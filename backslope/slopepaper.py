@@ -2,7 +2,7 @@
 
 from backslope.backpaper import is_monic, shows_form, shows_none
 from backslope.forms import form_slope, settled
-from backslope.fractions import f_minus, f_plus, f_slope, f_times
+from backslope.fractions import f_minus, f_plus, f_slope, f_times, is_number
 from backslope.numbers import over, plus, times
 from backslope.parts import is_nought_over
 from backslope.places import rational_roots
@@ -29,8 +29,7 @@ def shows_only(f, why):
 
 # Whether it means the logarithm of a number times whole powers of polynomials.
 def is_of_powers(form):
-    R = form[0]
-    return degree(R[0]) < 1 and degree(R[1]) == 0 and all([c[1] == 1 for c, v in form[1]])
+    return is_number(form[0]) and all([c[1] == 1 for c, v in form[1]])
 
 
 def shows_no_solution(f, g, paper):

@@ -2,6 +2,7 @@
 
 from backslope.errors import NoText, Nought
 from backslope.fractions import f_minus, f_number, f_over, f_plus, f_times
+from backslope.numbers import size_of
 from backslope.polys import degree, p_power
 from backslope.wholes import raised
 
@@ -169,7 +170,7 @@ def show_poly(P):
     text = ""
     for n in range(degree(P), -1, -1):
         if P[n][0] != 0:
-            text += joint(P[n], text == "") + show_term((abs(P[n][0]), P[n][1]), n)
+            text += joint(P[n], text == "") + show_term(size_of(P[n]), n)
     return text if text != "" else "0"
 
 

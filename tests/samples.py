@@ -14,6 +14,8 @@ NOUGHT = (0, 1)
 ONE = (1, 1)
 # Far more figures than the logarithms here are told apart by.
 FIGURES = Context(prec=400)
+# Two worths that are less apart than this are held for the same.
+NEAR = Decimal(10) ** -250
 
 
 def lowest(top, bottom):
@@ -63,6 +65,16 @@ def polys():
 def whole(wholes):
     """The polynomial of a list of whole numbers, the last one not nought."""
     return tuple((top, 1) for top in wholes)
+
+
+X = whole([0, 1])
+UNIT = (ONE,)
+ZERO = ((), UNIT)
+HALF = (1, 2)
+# Irreducible ones: without a real place, with two, and with one.
+CIRCLE = whole([1, 0, 1])
+SQUARE = whole([-2, 0, 1])
+CUBE = whole([1, 1, 0, 1])
 
 
 def is_number(value):
@@ -133,6 +145,30 @@ def log_worth(q, rows):
         less = FIGURES.subtract(log_of(r[0]), log_of(r[1]))
         total = FIGURES.add(total, FIGURES.multiply(decimal(c), less))
     return total
+
+
+def near(one, other):
+    """Whether two worths are the same but for the figures that are left out."""
+    return abs(FIGURES.subtract(one, other)) < NEAR
+
+
+def pair(worth):
+    return (worth.numerator, worth.denominator)
+
+
+def poly_at(P, x):
+    """The worth of a polynomial, with another kind of numbers."""
+    total = Fraction(0)
+    for number in reversed(P):
+        total = total * x + Fraction(*number)
+    return total
+
+
+def form_at(form, x):
+    """The worth of R and the sum of c times log|P| at a place where it has one, to some hundred figures."""
+    R, rows = form
+    q = poly_at(R[0], x) / poly_at(R[1], x)
+    return log_worth(pair(q), [(c, pair(abs(poly_at(P, x)))) for c, P in rows])
 
 
 def drawn_fraction(chance, top, bottom, figures, draw=drawn_number):

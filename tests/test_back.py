@@ -9,16 +9,9 @@ from backslope.fractions import f_minus, f_plus, f_slope, fraction
 from backslope.numbers import plus
 from backslope.polys import common, degree, p_minus, p_plus, p_power, p_scaled, p_slope, p_split, p_times
 from samples import (
-    NOUGHT, ONE, drawn_fraction, drawn_number, drawn_poly, drawn_whole, is_form, is_fraction, is_number, is_poly, line,
-    lowest, polys, product, whole)
+    CIRCLE, CUBE, HALF, NOUGHT, ONE, SQUARE, UNIT, X, ZERO, drawn_fraction, drawn_number, drawn_poly, drawn_whole,
+    is_form, is_fraction, is_number, is_poly, line, lowest, polys, product, whole)
 
-X = whole([0, 1])
-UNIT = (ONE,)
-ZERO = ((), UNIT)
-HALF = (1, 2)
-CIRCLE = whole([1, 0, 1])
-SQUARE = whole([-2, 0, 1])
-CUBE = whole([1, 1, 0, 1])
 RATIONAL = (X, line(1), line(-3, 2))
 # Fractions with no logarithm of the told kind: A over D, the residues at all places of D are no numbers.
 WILD = (

@@ -9,15 +9,9 @@ from backslope.numbers import plus, times
 from backslope.parts import inverse, put_into
 from backslope.places import rational_roots
 from backslope.polys import common, degree, p_minus, p_plus, p_power, p_scaled, p_slope, p_split, p_times
-from samples import NOUGHT, ONE, drawn_fraction, drawn_number, drawn_poly, line, polys, product, whole
-
-X = whole([0, 1])
-UNIT = (ONE,)
-ZERO = ((), UNIT)
-HALF = (1, 2)
-CIRCLE = whole([1, 0, 1])
-SQUARE = whole([-2, 0, 1])
-CUBE = whole([1, 1, 0, 1])
+from samples import (
+    CIRCLE, CUBE, HALF, NOUGHT, ONE, SQUARE, UNIT, X, ZERO, drawn_fraction, drawn_number, drawn_poly, line, polys,
+    product, whole)
 
 
 def drawn_forms():

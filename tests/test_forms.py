@@ -9,13 +9,9 @@ from backslope.fractions import f_number, f_plus, f_slope, f_times, fraction
 from backslope.numbers import times
 from backslope.polys import p_at, p_power, p_scaled, p_slope, p_times
 from samples import (
-    NOUGHT, ONE, drawn_fraction, drawn_number, drawn_poly, is_form, is_fraction, is_number, line, polys, product, whole)
+    CIRCLE, HALF, NOUGHT, ONE, UNIT, X, ZERO, drawn_fraction, drawn_number, drawn_poly, is_form, is_fraction, is_number,
+    line, polys, product, whole)
 
-X = whole([0, 1])
-UNIT = (ONE,)
-ZERO = ((), UNIT)
-HALF = (1, 2)
-CIRCLE = whole([1, 0, 1])
 # No two have a common factor.
 FACTORS = (X, line(1), line(-1), line(1, 2), CIRCLE, whole([-2, 0, 1]), whole([1, 1, 0, 1]))
 

@@ -5,11 +5,10 @@ from backslope.fractions import (
     f_at, f_minus, f_moved, f_number, f_over, f_plus, f_poly, f_slope, f_times, fraction)
 from backslope.numbers import minus, over, plus, times
 from backslope.polys import degree, p_at, p_minus, p_moved, p_plus, p_power, p_scaled, p_slope, p_times
-from samples import NOUGHT, ONE, drawn_number, drawn_poly, drawn_whole, is_fraction, line, numbers, polys, whole
+from samples import (
+    NOUGHT, ONE, UNIT, ZERO, drawn_number, drawn_poly, drawn_whole, is_fraction, line, numbers, polys, whole)
 
 X = (NOUGHT, ONE)
-UNIT = (ONE,)
-ZERO = ((), UNIT)
 PLACES = (NOUGHT, ONE, (-1, 1), (2, 3), (-3, 2), (-10 ** 12 + 1, 10 ** 12 - 3))
 
 

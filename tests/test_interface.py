@@ -35,6 +35,10 @@ NAMES = {
     "lognumbers": {"settled_number": ["q", "rows"], "n_plus": ["one", "other"], "n_scaled": ["one", "c"],
                    "sign_of": ["one"], "held": ["one", "width"]},
     "limits": {"value_at": ["form", "c"], "limit": ["form", "place", "side"]},
+    "areas": {"holes": ["f", "low", "high"], "area": ["f", "low", "high"]},
+    "alike": {"alike": ["one", "other"]},
+    "sheet": {"show_form": ["form"], "show_log_number": ["n"]},
+    "run": {"run": ["text"]},
 }
 
 

@@ -154,9 +154,24 @@ class Language(unittest.TestCase):
                 if isinstance(node, (ast.FunctionDef, ast.ClassDef)):
                     bound.append(node.name)
                 if isinstance(node, ast.Assign):
+                    self.plain(node.value, list(bound))
                     bound.append(node.targets[0].id)
-                    ast.literal_eval(node.value)
             self.assertEqual(len(bound), len(set(bound)), name)
+
+    # Whole numbers, texts and their like, and functions from above, in lists, tuples and dicts.
+    def plain(self, value, above):
+        if isinstance(value, ast.Name):
+            self.assertIn(value.id, above)
+        elif isinstance(value, (ast.Tuple, ast.List)):
+            for part in value.elts:
+                self.plain(part, above)
+                self.assertNotIsInstance(part, (ast.List, ast.Dict))
+        elif isinstance(value, ast.Dict):
+            for part in value.keys + value.values:
+                self.plain(part, above)
+                self.assertNotIsInstance(part, (ast.List, ast.Dict))
+        else:
+            ast.literal_eval(value)
 
     def test_keywords(self):
         kept = {"sorted": {"key", "reverse"}, "min": {"key", "default"}, "max": {"key", "default"},

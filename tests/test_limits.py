@@ -9,35 +9,13 @@ from backslope.limits import limit, value_at
 from backslope.lognumbers import n_scaled
 from backslope.polys import degree, p_at, p_power, p_scaled, p_times
 from samples import (
-    FIGURES, NOUGHT, ONE, drawn_fraction, drawn_poly, is_settled_number, line, log_worth, product, whole)
+    CIRCLE, CUBE, FIGURES, HALF, NOUGHT, ONE, SQUARE, UNIT, X, ZERO, drawn_fraction, drawn_poly, form_at,
+    is_settled_number, line, log_worth, near, poly_at, product, whole)
 
-X = whole([0, 1])
-UNIT = (ONE,)
-ZERO = ((), UNIT)
-HALF = (1, 2)
-CIRCLE = whole([1, 0, 1])
-SQUARE = whole([-2, 0, 1])
-CUBE = whole([1, 1, 0, 1])
 PLACES = (NOUGHT, ONE, (-2, 1), HALF, (-3, 7), (10 ** 12, 1), (1, 10 ** 12))
 SIDES = ("above", "below")
 UP = ("up",)
 DOWN = ("down",)
-
-
-def at(P, x):
-    """The worth of a polynomial, with another kind of numbers."""
-    total = Fraction(0)
-    for number in reversed(P):
-        total = total * x + Fraction(*number)
-    return total
-
-
-def worth_at(form, x):
-    """The form's worth at a place where it has one, to some hundred figures."""
-    R, logs = form
-    q = at(R[0], x) / at(R[1], x)
-    sizes = [(c, abs(at(v, x))) for c, v in logs]
-    return log_worth((q.numerator, q.denominator), [(c, (r.numerator, r.denominator)) for c, r in sizes])
 
 
 def steps_near(place, side):
@@ -67,20 +45,15 @@ def drawn_forms():
 FORMS = drawn_forms()
 
 
-class Case(unittest.TestCase):
-    def near(self, one, other, room=Decimal(10) ** -250):
-        self.assertLess(abs(FIGURES.subtract(one, other)), room)
-
-
-class Values(Case):
+class Values(unittest.TestCase):
     def value(self, form, c):
         answer = value_at(form, c)
         R, logs = form
-        if any(at(P, Fraction(*c)) == 0 for P in [R[1]] + [v for e, v in logs]):
+        if any(poly_at(P, Fraction(*c)) == 0 for P in [R[1]] + [v for e, v in logs]):
             self.assertIsNone(answer)
         else:
             self.assertTrue(is_settled_number(answer), answer)
-            self.near(log_worth(*answer), worth_at(form, Fraction(*c)))
+            self.assertTrue(near(log_worth(*answer), form_at(form, Fraction(*c))))
         self.assertEqual(value_at(form, c), answer)
         return answer
 
@@ -124,16 +97,16 @@ class Values(Case):
             self.value(form, (3 * c + 1, 3))
 
 
-class Limits(Case):
+class Limits(unittest.TestCase):
     def goes(self, form, place, side):
         answer = limit(form, place, side)
         self.assertIs(type(answer), tuple)
-        far, near = [worth_at(form, x) for x in steps_near(place, side)]
-        less = FIGURES.subtract(near, far)
+        far, close = [form_at(form, x) for x in steps_near(place, side)]
+        less = FIGURES.subtract(close, far)
         if answer[0] == "number":
             self.assertEqual(len(answer), 2)
             self.assertTrue(is_settled_number(answer[1]), answer)
-            self.near(log_worth(*answer[1]), near, Decimal(10) ** -50)
+            self.assertLess(abs(FIGURES.subtract(log_worth(*answer[1]), close)), Decimal(10) ** -50)
             self.assertLess(abs(less), 1)
         else:
             self.assertIn(answer, (UP, DOWN))

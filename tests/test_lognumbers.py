@@ -7,16 +7,10 @@ from random import Random
 from backslope.forms import settled
 from backslope.lognumbers import held, log_ends, n_plus, n_scaled, settled_number, sign_of
 from samples import (
-    FIGURES, NOUGHT, ONE, decimal, drawn_number, is_number, is_settled_number, log_of, log_worth, lowest, numbers, whole)
+    FIGURES, HALF, NEAR, NOUGHT, ONE, decimal, drawn_number, is_number, is_settled_number, log_of, log_worth, lowest,
+    near, numbers, whole)
 
 ZERO = (NOUGHT, ())
-HALF = (1, 2)
-# Two worths that are less apart than this are held for the same.
-NEAR = Decimal(10) ** -250
-
-
-def near(one, other):
-    return abs(FIGURES.subtract(one, other)) < NEAR
 
 
 def drawn_size(chance, figures):

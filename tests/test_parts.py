@@ -5,11 +5,9 @@ from backslope.parts import (
     inverse, is_nought_over, least, least_over, meets, put_into, radical, simple_parts)
 from backslope.polys import (
     common, degree, monic, p_moved, p_plus, p_power, p_scaled, p_slope, p_split, p_times, poly)
-from samples import (
-    NOUGHT, ONE, drawn_number, drawn_poly, drawn_whole, is_poly, line, polys, product, rank, whole)
+from samples import NOUGHT, ONE, UNIT, drawn_number, drawn_poly, drawn_whole, is_poly, line, polys, product, rank, whole
 
 X = (NOUGHT, ONE)
-UNIT = (ONE,)
 # None of them can be parted, and no two have a common factor.
 PRIMES = (
     X, whole([1, 1]), ((-1, 2), ONE), whole([1, 0, 1]), whole([-2, 0, 1]), whole([2, 0, 0, 1]),

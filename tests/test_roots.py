@@ -11,25 +11,16 @@ from backslope.polys import degree, p_plus, p_scaled, p_times
 from backslope.roots import joined, parted, read_root, root_back, root_shows, root_slope, x_of
 from backslope.texts import show_number
 from samples import (
-    NOUGHT, ONE, drawn_fraction, drawn_number, drawn_poly, is_form, is_fraction, line, lowest, product, whole)
+    CIRCLE, HALF, NOUGHT, ONE, SQUARE, UNIT, X, ZERO, drawn_fraction, drawn_number, drawn_poly, is_form, is_fraction,
+    line, lowest, pair, product, whole)
 
-X = whole([0, 1])
-UNIT = (ONE,)
-ZERO = ((), UNIT)
-HALF = (1, 2)
 Y = (X, UNIT)
-CIRCLE = whole([1, 0, 1])
-SQUARE = whole([-2, 0, 1])
 LINES = (
     (ONE, NOUGHT), (ONE, ONE), ((2, 1), (-3, 1)), ((-1, 1), (4, 1)), ((-2, 3), (5, 7)), ((1, 6), (-1, 4)),
     ((10 ** 12 - 2, 7), (-(10 ** 12) + 1, 10 ** 12 - 2)))
 KINDS = tuple((n, a, b) for n in (2, 3, 4) for a, b in LINES)
 FEW = ((2, (-2, 3), (5, 7)), (3, ONE, NOUGHT), (3, (2, 1), (-3, 1)), (4, (1, 6), (-1, 4)))
 PLACES = (Fraction(2), Fraction(-3), Fraction(5, 7), Fraction(-11, 6))
-
-
-def pair(worth):
-    return (worth.numerator, worth.denominator)
 
 
 def to_the(i):

@@ -13,16 +13,9 @@ from backslope.polys import degree, number_of, p_minus, p_plus, p_power, p_scale
 from backslope.slopepaper import shows_no_solution, shows_only, shows_solution
 from backslope.slopes import bottom_of, hold_of, reduced, solve, top_for
 from samples import (
-    NOUGHT, ONE, drawn_fraction, drawn_number, drawn_poly, failing_weights, left_side, line, lowest, polys, product,
-    weight_of, weights_by, whole)
+    CIRCLE, CUBE, HALF, NOUGHT, ONE, SQUARE, UNIT, X, ZERO, drawn_fraction, drawn_number, drawn_poly, failing_weights,
+    left_side, line, lowest, polys, product, weight_of, weights_by, whole)
 
-X = whole([0, 1])
-UNIT = (ONE,)
-ZERO = ((), UNIT)
-HALF = (1, 2)
-CIRCLE = whole([1, 0, 1])
-SQUARE = whole([-2, 0, 1])
-CUBE = whole([1, 1, 0, 1])
 GREAT = 10 ** 9 + 7
 
 

@@ -11,16 +11,9 @@ from backslope.polys import common, degree, monic, p_minus, p_plus, p_power, p_s
 from backslope.slopepaper import shows_no_solution, shows_only, shows_solution
 from backslope.slopes import bottom_of, hold_of, reduced, solve, top_for
 from samples import (
-    NOUGHT, ONE, drawn_fraction, drawn_poly, is_fraction, is_number, is_poly, left_side, line, lowest,
-    polys, product, whole)
+    CIRCLE, CUBE, HALF, NOUGHT, ONE, SQUARE, UNIT, X, ZERO, drawn_fraction, drawn_poly, is_fraction, is_number, is_poly,
+    left_side, line, lowest, polys, product, whole)
 
-X = whole([0, 1])
-UNIT = (ONE,)
-ZERO = ((), UNIT)
-HALF = (1, 2)
-CIRCLE = whole([1, 0, 1])
-SQUARE = whole([-2, 0, 1])
-CUBE = whole([1, 1, 0, 1])
 THIRD = ((-1, 3), ONE)
 LINES = (X, line(1), line(-1), line(2), ((3, 2), ONE), THIRD)
 QUADRATICS = (CIRCLE, SQUARE, whole([3, 1, 1]))

@@ -10,15 +10,10 @@ from backslope.polys import degree, number_of, p_minus, p_moved, p_plus, p_power
 from backslope.sumpaper import shows_no_sum, shows_sum
 from backslope.sums import steps_of, summed, top_of
 from samples import (
-    NOUGHT, ONE, drawn_fraction, drawn_number, drawn_poly, failing_weights, line, lowest, polys, product, weight_of, whole)
+    CIRCLE, CUBE, NOUGHT, ONE, SQUARE, UNIT, X, ZERO, drawn_fraction, drawn_number, drawn_poly, failing_weights, line,
+    lowest, polys, product, weight_of, whole)
 
-X = whole([0, 1])
 NEXT = whole([1, 1])
-UNIT = (ONE,)
-ZERO = ((), UNIT)
-CIRCLE = whole([1, 0, 1])
-SQUARE = whole([-2, 0, 1])
-CUBE = whole([1, 1, 0, 1])
 
 
 def column(a, b, i):

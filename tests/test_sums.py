@@ -10,16 +10,9 @@ from backslope.polys import common, degree, p_moved, p_plus, p_power, p_scaled, 
 from backslope.sumpaper import shows_no_sum, shows_sum
 from backslope.sums import steps_of, sum_of, summed, top_of
 from samples import (
-    NOUGHT, ONE, drawn_fraction, drawn_number, drawn_poly, is_fraction, is_number, is_poly, line, lowest, polys,
-    product, whole)
+    CIRCLE, CUBE, HALF, NOUGHT, ONE, SQUARE, UNIT, X, ZERO, drawn_fraction, drawn_number, drawn_poly, is_fraction,
+    is_number, is_poly, line, lowest, polys, product, whole)
 
-X = whole([0, 1])
-UNIT = (ONE,)
-ZERO = ((), UNIT)
-HALF = (1, 2)
-CIRCLE = whole([1, 0, 1])
-SQUARE = whole([-2, 0, 1])
-CUBE = whole([1, 1, 0, 1])
 STARTS = (NOUGHT, ONE, (1, 2), (-2, 3), (5, 7), (10 ** 12 - 2, 7), (-(10 ** 12) + 1, 10 ** 12 - 2))
 
 

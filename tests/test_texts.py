@@ -7,11 +7,8 @@ from backslope.errors import NoText, Nought
 from backslope.fractions import f_at, f_over, f_plus, fraction
 from backslope.polys import p_minus, p_plus, p_power, p_times
 from backslope.texts import read, read_x, show, show_number, show_poly
-from samples import NOUGHT, ONE, drawn_number, drawn_poly, is_fraction, line, lowest, numbers, polys, whole
-
-X = whole([0, 1])
-UNIT = (ONE,)
-ZERO = ((), UNIT)
+from samples import (
+    NOUGHT, ONE, UNIT, X, ZERO, drawn_number, drawn_poly, is_fraction, line, lowest, numbers, polys, whole)
 
 
 def pure(*wholes):
